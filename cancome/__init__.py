@@ -1,0 +1,1 @@
+"""What can come: graphs, formulas of what can come, and where they hold."""

@@ -3,6 +3,8 @@
 Each takes the graph and the call's arguments, which are in their ranges, and gives back the answer's numbers.
 """
 
+from cancome.answer import counted
+
 MOST_NODES = 12
 MOST_NEXTS = 4
 
@@ -51,5 +53,4 @@ def told_call(graph, arguments):
     node = arguments[0]
     if not graph.has_node(node):
         return [-3]
-    ahead = graph.nexts[node]
-    return [graph.marks[node], len(ahead)] + ahead
+    return [graph.marks[node]] + counted(graph.nexts[node])

@@ -1,5 +1,7 @@
 """Formulas, kept written out: their kinds are true, m0 to m3, not, and, or, EX, EU and EG alone."""
 
+GREATEST_SIZE = 40
+
 
 class Formula:
     """A formula of one kind and its parts; bound is the k of EU k, else None."""
@@ -10,6 +12,11 @@ class Formula:
         self.bound = bound
         # Reckoned here and not by a walk: AU has one part three times, so a walk through many AU would never end.
         self.size = 1 + sum([part.size for part in parts])
+
+
+def too_large(formula):
+    """Whether a call refuses the formula for its size."""
+    return formula.size > GREATEST_SIZE
 
 
 def negated(inner):

@@ -6,9 +6,9 @@ A truth is a list that has, for each node, whether something holds at it.
 MARK_VALUES = {"m0": 1, "m1": 2, "m2": 4, "m3": 8}
 
 
-def nodes_where(graph, formula):
-    """The nodes at which the formula holds, rising."""
-    return [node for node, here in enumerate(truth_of(graph, formula)) if here]
+def nodes_where(truth):
+    """The nodes at which it holds, rising."""
+    return [node for node, here in enumerate(truth) if here]
 
 
 def truth_of(graph, formula):
@@ -16,7 +16,7 @@ def truth_of(graph, formula):
     if kind == "true":
         return [True for marks in graph.marks]
     if kind in MARK_VALUES:
-        return [(marks & MARK_VALUES[kind]) != 0 for marks in graph.marks]
+        return [has_mark(marks, kind) for marks in graph.marks]
     first = truth_of(graph, formula.parts[0])
     if kind == "not":
         return [not here for here in first]
@@ -32,12 +32,20 @@ def truth_of(graph, formula):
     return until(graph, first, second, formula.bound)
 
 
+def has_mark(marks, word):
+    return (marks & MARK_VALUES[word]) != 0
+
+
 def both(first, second):
     return [here and there for here, there in zip(first, second)]
 
 
 def either(first, second):
     return [here or there for here, there in zip(first, second)]
+
+
+def unlike(first, second):
+    return [here != there for here, there in zip(first, second)]
 
 
 def at_some_next(graph, truth):
@@ -49,8 +57,13 @@ def until(graph, first, second, bound):
     steps = len(graph.marks) if bound is None else bound
     reached = second
     for step in range(steps):
-        reached = either(second, both(first, at_some_next(graph, reached)))
+        reached = one_step_more(graph, first, second, reached)
     return reached
+
+
+def one_step_more(graph, first, second, reached):
+    """Where a way begins that arrives within one step more than those that begin where reached says."""
+    return either(second, both(first, at_some_next(graph, reached)))
 
 
 def for_ever(graph, truth):

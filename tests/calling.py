@@ -26,10 +26,38 @@ def told(number):
     return [4, number]
 
 
-def holds(text):
-    """text: a str, or a list of numbers."""
+def row(text):
+    """A text as it is handed in, how many numbers it has before it. text: a str, or a list of numbers."""
     numbers = list(text.encode("latin-1")) if isinstance(text, str) else list(text)
-    return [5, len(numbers)] + numbers
+    return [len(numbers)] + numbers
+
+
+def holds(text):
+    return [5] + row(text)
+
+
+def shows(number, text):
+    return [6, number] + row(text)
+
+
+def form(text):
+    return [7] + row(text)
+
+
+def classes():
+    return [8]
+
+
+def apart(first, second):
+    return [9, first, second]
+
+
+def quotient():
+    return [10]
+
+
+def same(first, second):
+    return [11] + row(first) + row(second)
 
 
 def graph(all_marks, edges):
@@ -37,7 +65,7 @@ def graph(all_marks, edges):
     return [node(number) for number in all_marks] + [edge(start, end) for start, end in edges]
 
 
-def apart(numbers):
+def taken_apart(numbers):
     """Each call's answer, without its count."""
     found = []
     place = 0
@@ -51,7 +79,7 @@ def apart(numbers):
 
 def ask(calls):
     """Each call's answer, as a list."""
-    return apart(answers([number for call in calls for number in call]))
+    return taken_apart(answers([number for call in calls for number in call]))
 
 
 def ask_last(calls):
@@ -63,10 +91,10 @@ def ask_behind(first, calls):
     found = []
     waiting = list(calls)
     while waiting:
-        row = list(first)
-        numbers = sum(len(call) for call in row)
-        while waiting and len(row) < 400 and numbers + len(waiting[0]) <= 16000:
+        made = list(first)
+        numbers = sum(len(call) for call in made)
+        while waiting and len(made) < 400 and numbers + len(waiting[0]) <= 16000:
             numbers += len(waiting[0])
-            row.append(waiting.pop(0))
-        found += ask(row)[len(first):]
+            made.append(waiting.pop(0))
+        found += ask(made)[len(first):]
     return found

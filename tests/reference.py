@@ -8,6 +8,19 @@ LEAVES = ("true", "m0", "m1", "m2", "m3")
 BOUNDS = ([str(number) for number in range(13)] + ["0" + str(number) for number in range(10)])
 
 
+def random_tree(source, deep):
+    """A tree that is so deep; the k of an EU k is a word, with or without a zero in front."""
+    if deep <= 1:
+        return (source.choice(LEAVES),)
+    if source.randrange(2) == 0:
+        return (source.choice(PREFIXES), random_tree(source, deep - 1))
+    joiner = source.choice(("and", "or", "EU", "AU"))
+    tree = (joiner, random_tree(source, deep - 1), random_tree(source, source.randrange(deep)))
+    if joiner == "EU" and source.randrange(2) == 0:
+        tree += (source.choice(BOUNDS),)
+    return tree
+
+
 def text_of(tree):
     """The tree as a text, with ( ) around each of its parts that needs them."""
     if len(tree) == 1:

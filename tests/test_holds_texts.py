@@ -5,7 +5,7 @@ import random
 import unittest
 
 from tests.calling import GREATEST, SMALLEST, ask, ask_behind, ask_last, cut, edge, graph, holds, node, told
-from tests.reference import BOUNDS, LEAVES, PREFIXES, size_of, text_of, wrong_word
+from tests.reference import LEAVES, PREFIXES, random_tree, size_of, text_of, wrong_word
 
 # Node 0 has mark 0 alone, node 1 mark 1, node 2 marks 2 and 3; they go round.
 ROUND = graph([1, 2, 12], [(0, 1), (1, 2), (2, 0)])
@@ -133,18 +133,6 @@ class Grammar(TextCase):
                 self.assertEqual(answer, [-1000 - place], text)
             else:
                 self.assertIn(answer, ([0], [-5]), text)
-
-
-def random_tree(source, deep):
-    if deep <= 1:
-        return (source.choice(LEAVES),)
-    if source.randrange(2) == 0:
-        return (source.choice(PREFIXES), random_tree(source, deep - 1))
-    joiner = source.choice(("and", "or", "EU", "AU"))
-    tree = (joiner, random_tree(source, deep - 1), random_tree(source, source.randrange(deep)))
-    if joiner == "EU" and source.randrange(2) == 0:
-        tree += (source.choice(BOUNDS),)
-    return tree
 
 
 class Depth(TextCase):

@@ -24,6 +24,8 @@ BAD_PARTS = ("dataclass", "overload", "contextmanager")
 BAD_NAMES = set("""register mro elements open input version_info with_traceback add_note attrgetter breakpoint builtins
     compile copyright credits delattr dir eval exec exit gc getattr globals hasattr help id importlib license locals
     methodcaller os quit setattr super type vars sys chr format format_map""".split())
+WALKED = {"zip", "enumerate", "reversed", "range", "items", "keys", "values"}
+WALKERS = {"list", "tuple", "dict", "sorted", "sum", "any", "all", "enumerate", "zip", "min", "max"}
 NODES = set("""Module Expr Constant ImportFrom alias FunctionDef arguments arg ClassDef Assign AugAssign If While For
     Return Break Continue Pass Raise Try ExceptHandler Name Load Store Attribute Subscript Slice Call keyword BinOp
     UnaryOp BoolOp Compare IfExp List Tuple Dict ListComp comprehension Lambda JoinedStr FormattedValue Add Sub Mult
@@ -102,6 +104,43 @@ class Language(unittest.TestCase):
             if isinstance(node, ast.Call) and isinstance(node.func, ast.Attribute):
                 self.assertIn(node.func.attr, METHODS | own, name)
 
+    def test_walked_at_once(self):
+        for name, tree in trees():
+            walked = [place.iter for place in ast.walk(tree) if isinstance(place, (ast.For, ast.comprehension))]
+            walked += [call.args[0] for call in calls_in(tree) if called(call) in WALKERS and call.args]
+            kept = [call for call in calls_in(tree) if called(call) in WALKED and call not in walked]
+            self.assertEqual([(called(call), call.lineno) for call in kept], [], name)
+
+    def test_sets(self):
+        for name, tree in trees():
+            beside = [part for place in ast.walk(tree) if isinstance(place, ast.Compare)
+                      for part in [place.left] + place.comparators]
+            beside += [call.args[0] for call in calls_in(tree) if called(call) in ("sorted", "len")]
+            kept = [call for call in calls_in(tree) if called(call) in ("set", "frozenset") and call not in beside]
+            self.assertEqual([call.lineno for call in kept], [], name)
+
+    def test_no_name_is_both_a_method_and_a_value(self):
+        methods = {node.name for name, place in all_nodes() if isinstance(place, ast.ClassDef) for node in place.body
+                   if isinstance(node, ast.FunctionDef)}
+        values = {node.attr for name, node in all_nodes() if isinstance(node, ast.Attribute)
+                  and isinstance(node.ctx, ast.Store)}
+        self.assertEqual(methods & values, set())
+        known = {word for kind in (str, int, list, dict, set, bytes, tuple, bool) for word in dir(kind)}
+        self.assertEqual(values & known, set())
+
+    def test_no_local_is_called_like_an_import(self):
+        for name, tree in trees():
+            imported = {part.name for row in tree.body if isinstance(row, ast.ImportFrom) for part in row.names}
+            imported |= {row.name for row in tree.body if isinstance(row, ast.ClassDef)}
+            bound = {word for node in ast.walk(tree) if isinstance(node, (ast.Name, ast.arg, ast.ExceptHandler))
+                     for word, stored in names_in(node) if stored}
+            self.assertEqual(imported & bound, set(), name)
+
+    def test_is_stands_beside_none_true_and_false_alone(self):
+        for name, node in all_nodes():
+            if isinstance(node, ast.Compare) and isinstance(node.ops[0], (ast.Is, ast.IsNot)):
+                self.assertIsInstance(node.comparators[0], ast.Constant, (name, node.lineno))
+
     def test_imports(self):
         drawn = {}
         for name, tree in trees():
@@ -119,6 +158,15 @@ class Language(unittest.TestCase):
             free = [name for name in drawn if not [other for other in drawn[name] if other in drawn]]
             self.assertTrue(free, drawn)
             drawn = {name: drawn[name] for name in drawn if name not in free}
+
+
+def calls_in(tree):
+    return [node for node in ast.walk(tree) if isinstance(node, ast.Call)]
+
+
+def called(call):
+    """The name of the function or method that is called, "" if it has none."""
+    return getattr(call.func, "id", getattr(call.func, "attr", ""))
 
 
 def names_in(node):
